@@ -1,0 +1,92 @@
+// Package donate: threads that share workers, and lend each other their urgency: see DOC.md.
+package donate
+
+import (
+	"donate/api"
+	"donate/check"
+)
+
+// Kernel is a set at work.
+type Kernel struct {
+	now     int
+	threads []thread
+	workers []int // by worker the thread that runs on it, or none
+}
+
+// Check tells whether a set may be, and where it may not (P3).
+func Check(set api.Set) (api.Errno, int) {
+	fault := check.Set(set)
+	return fault.Err, fault.Place
+}
+
+// New makes a kernel (P4).
+func New(set api.Set) (*Kernel, api.Errno) {
+	fault := check.Set(set)
+	if fault.Err != api.OK {
+		return nil, fault.Err
+	}
+	threads := newThreads(set.Threads)
+	workers := freeWorkers(set.Workers)
+	k := &Kernel{now: set.Start, threads: threads, workers: workers}
+	for t, given := range set.Threads {
+		if given.Offset == 0 {
+			k.release(t)
+		}
+	}
+	k.giveOutWorkers()
+	return k, api.OK
+}
+
+// Pick lets a worker do one instruction (P7).
+func (k *Kernel) Pick(w int) (api.Report, api.Errno) {
+	if w < 0 || w >= len(k.workers) {
+		return api.Report{}, api.ErrArg
+	}
+	t := k.workers[w]
+	if t == none {
+		return api.Report{Thread: none}, api.OK
+	}
+	at := k.threads[t].at
+	code := k.step(t)
+	k.giveOutWorkers()
+	return api.Report{Thread: t, At: at, Code: code}, api.OK
+}
+
+// Tick lets a unit of time go by (P10).
+func (k *Kernel) Tick() ([]api.Miss, api.Errno) { return nil, api.OK }
+
+// Now tells the time (P10).
+func (k *Kernel) Now() int { return k.now }
+
+// Running tells by worker which thread runs on it (P6).
+func (k *Kernel) Running() []int {
+	running := make([]int, len(k.workers))
+	copy(running, k.workers)
+	return running
+}
+
+// Look tells what can be seen of a thread (P9).
+func (k *Kernel) Look(t int) (api.View, api.Errno) {
+	if t < 0 || t >= len(k.threads) {
+		return api.View{}, api.ErrArg
+	}
+	return k.view(t), api.OK
+}
+
+// Misses tells all deadlines that were missed (P11).
+func (k *Kernel) Misses() []api.Miss { return nil }
+
+// Owner tells who owns a mutex (P13).
+func (k *Kernel) Owner(m int) (int, api.Errno) { return 0, api.OK }
+
+// Waiting tells who waits for a mutex, a semaphore or a queue (P13).
+func (k *Kernel) Waiting(what int, i int) ([]int, api.Errno) { return nil, api.OK }
+
+// Count tells what a semaphore counts (P14).
+func (k *Kernel) Count(s int) (int, api.Errno) { return 0, api.OK }
+
+// Messages tells what lies in a queue (P15).
+func (k *Kernel) Messages(q int) ([]int, api.Errno) { return nil, api.OK }
+
+// Run plays a script over a new kernel (P16).
+func Run(set api.Set, script []int) ([]api.Line, api.Errno) { return nil, api.OK }

@@ -1,0 +1,98 @@
+package donate
+
+import "donate/api"
+
+// thread: one thread of a kernel.
+type thread struct {
+	code     []api.Instr
+	base     int
+	at       int
+	last     api.Code
+	released int
+	ended    int
+	ticket   int // its rank among the last tickets of all threads
+}
+
+// newThreads makes threads without jobs. Codes are copied, because their owner
+// may write over them later.
+func newThreads(given []api.Thread) []thread {
+	threads := make([]thread, len(given))
+	for t, from := range given {
+		code := make([]api.Instr, len(from.Code))
+		copy(code, from.Code)
+		threads[t] = thread{code: code, base: from.Base, ticket: t}
+	}
+	return threads
+}
+
+// release gives thread t one job more.
+func (k *Kernel) release(t int) {
+	wasIdle := !k.hasJob(t)
+	k.threads[t].released++
+	if wasIdle {
+		k.drawTicket(t)
+	}
+}
+
+func (k *Kernel) hasJob(t int) bool {
+	return k.threads[t].released > k.threads[t].ended
+}
+
+// awake tells whether thread t could run. Nothing makes a thread wait yet, so
+// a job is all that it needs.
+func (k *Kernel) awake(t int) bool {
+	return k.hasJob(t)
+}
+
+// drawTicket puts thread t behind all others of its level. Tickets are kept as
+// ranks, because a count of all that were ever drawn would outgrow an int.
+func (k *Kernel) drawTicket(t int) {
+	old := k.threads[t].ticket
+	for i := range k.threads {
+		if k.threads[i].ticket > old {
+			k.threads[i].ticket--
+		}
+	}
+	k.threads[t].ticket = len(k.threads) - 1
+}
+
+// level is worked out whenever it is asked for, so that it follows at once
+// what it hangs on.
+func (k *Kernel) level(t int) int {
+	return k.threads[t].base
+}
+
+// goesAhead tells whether thread a is ahead of thread b in the order.
+func (k *Kernel) goesAhead(a int, b int) bool {
+	levelA := k.level(a)
+	levelB := k.level(b)
+	if levelA != levelB {
+		return levelA > levelB
+	}
+	return k.threads[a].ticket < k.threads[b].ticket
+}
+
+func (k *Kernel) state(t int) int {
+	if !k.awake(t) {
+		return api.Idle
+	}
+	if placeOf(k.workers, t) == none {
+		return api.Ready
+	}
+	return api.Running
+}
+
+func (k *Kernel) view(t int) api.View {
+	state := k.state(t)
+	level := k.level(t)
+	seen := k.threads[t]
+	return api.View{
+		State:    state,
+		Base:     seen.base,
+		Level:    level,
+		At:       seen.at,
+		Last:     seen.last,
+		Released: seen.released,
+		Ended:    seen.ended,
+	}
+}
