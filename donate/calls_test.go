@@ -13,6 +13,7 @@ var oddNumbers = []int{least, least + 1, -1 << 32, -2, -1, 0, 1, 2, 7, 8, 9, 15,
 func TestRefusals(t *testing.T) {
 	k := begin(t, workers(2, api.Thread{Base: 5, Code: code{work, yield}}, api.Thread{Base: 4}, api.Thread{Base: 3}))
 	picks(t, k, 0, 0, 0)
+	ticks(t, k)
 	for _, n := range oddNumbers {
 		before := seen(k)
 		if n < 0 || n >= 2 {
@@ -78,7 +79,8 @@ func anyThread(d *dice) api.Thread {
 }
 
 func anySet(d *dice) api.Set {
-	set := api.Set{Workers: anyNumber(d), Start: d.below(3), Mutexes: make([]api.Mutex, 1+d.below(3)), Sems: make([]api.Sem, 1+d.below(3)), Queues: make([]int, 1+d.below(3))}
+	starts := []int{0, 1, 2, api.MaxTime - 1, api.MaxTime}
+	set := api.Set{Workers: anyNumber(d), Start: starts[d.below(5)], Mutexes: make([]api.Mutex, 1+d.below(3)), Sems: make([]api.Sem, 1+d.below(3)), Queues: make([]int, 1+d.below(3))}
 	for i := range set.Mutexes {
 		set.Mutexes[i].Kind = d.below(2)
 	}

@@ -11,6 +11,8 @@ type Kernel struct {
 	now     int
 	threads []thread
 	workers []int // by worker the thread that runs on it, or none
+	waiters []int // the threads that wait, in the order in which they began to
+	misses  []api.Miss
 }
 
 // Check tells whether a set may be, and where it may not (P3).
@@ -25,14 +27,10 @@ func New(set api.Set) (*Kernel, api.Errno) {
 	if fault.Err != api.OK {
 		return nil, fault.Err
 	}
-	threads := newThreads(set.Threads)
+	threads := newThreads(set.Threads, set.Start)
 	workers := freeWorkers(set.Workers)
 	k := &Kernel{now: set.Start, threads: threads, workers: workers}
-	for t, given := range set.Threads {
-		if given.Offset == 0 {
-			k.release(t)
-		}
-	}
+	k.releaseJobs()
 	k.giveOutWorkers()
 	return k, api.OK
 }
@@ -53,7 +51,17 @@ func (k *Kernel) Pick(w int) (api.Report, api.Errno) {
 }
 
 // Tick lets a unit of time go by (P10).
-func (k *Kernel) Tick() ([]api.Miss, api.Errno) { return nil, api.OK }
+func (k *Kernel) Tick() ([]api.Miss, api.Errno) {
+	if k.now >= api.MaxTime {
+		return nil, api.ErrClock
+	}
+	k.now++
+	missed := k.lookAtDeadlines()
+	k.endDueWaits()
+	k.releaseJobs()
+	k.giveOutWorkers()
+	return missed, api.OK
+}
 
 // Now tells the time (P10).
 func (k *Kernel) Now() int { return k.now }
@@ -74,7 +82,11 @@ func (k *Kernel) Look(t int) (api.View, api.Errno) {
 }
 
 // Misses tells all deadlines that were missed (P11).
-func (k *Kernel) Misses() []api.Miss { return nil }
+func (k *Kernel) Misses() []api.Miss {
+	misses := make([]api.Miss, len(k.misses))
+	copy(misses, k.misses)
+	return misses
+}
 
 // Owner tells who owns a mutex (P13).
 func (k *Kernel) Owner(m int) (int, api.Errno) { return 0, api.OK }

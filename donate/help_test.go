@@ -25,6 +25,8 @@ func when(last int, place int) api.Instr { return api.Instr{Op: api.OpWhen, A: l
 
 func prio(thread int, base int) api.Instr { return api.Instr{Op: api.OpPrio, A: thread, B: base} }
 
+func sleep(ticks int) api.Instr { return api.Instr{Op: api.OpSleep, A: ticks} }
+
 func workers(n int, threads ...api.Thread) api.Set {
 	return api.Set{Workers: n, Threads: threads}
 }
@@ -48,6 +50,32 @@ func picks(t *testing.T, k *donate.Kernel, w int, thread int, at int) {
 	}
 }
 
+// rests: Pick(w) must answer that the thread waits from that place on.
+func rests(t *testing.T, k *donate.Kernel, w int, thread int, at int) {
+	t.Helper()
+	want := api.Report{Thread: thread, At: at, Code: api.Waits}
+	if got, err := k.Pick(w); err != api.OK || got != want {
+		t.Errorf("P10: Pick(%d) = %+v, %d, want %+v", w, got, err, want)
+	}
+}
+
+// ticks: a Tick must answer these misses.
+func ticks(t *testing.T, k *donate.Kernel, want ...api.Miss) {
+	t.Helper()
+	if got, err := k.Tick(); err != api.OK || !sameMisses(got, want) {
+		t.Errorf("P10, P11: Tick to %d = %v, %d, want %v", k.Now(), got, err, want)
+	}
+}
+
+func misses(t *testing.T, k *donate.Kernel, want ...api.Miss) {
+	t.Helper()
+	if got := k.Misses(); !sameMisses(got, want) {
+		t.Errorf("P11: Misses = %v, want %v", got, want)
+	}
+}
+
+func sameMisses(a []api.Miss, b []api.Miss) bool { return fmt.Sprint(a) == fmt.Sprint(b) }
+
 func runs(t *testing.T, k *donate.Kernel, want ...int) {
 	t.Helper()
 	if got := k.Running(); fmt.Sprint(got) != fmt.Sprint(want) {
@@ -62,9 +90,9 @@ func looks(t *testing.T, k *donate.Kernel, thread int, want api.View) {
 	}
 }
 
-// seen: all that can be seen of a kernel's threads, workers and time.
+// seen: all that can be seen of a kernel's threads, workers, time and misses.
 func seen(k *donate.Kernel) string {
-	text := fmt.Sprint(k.Now(), k.Running())
+	text := fmt.Sprint(k.Now(), k.Running(), k.Misses())
 	for thread := 0; ; thread++ {
 		view, err := k.Look(thread)
 		if err != api.OK {

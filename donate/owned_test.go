@@ -11,13 +11,13 @@ import (
 // roomySet: a set whose lists all have spare room, and the whole of these lists.
 func roomySet() (api.Set, func() string) {
 	codes := make(code, 6)
-	codes[0], codes[1], codes[2] = yield, prio(1, 7), work
+	codes[0], codes[1], codes[2] = yield, prio(1, 7), sleep(2)
 	for i := 3; i < 6; i++ {
 		codes[i] = api.Instr{Op: 77, A: 77, B: 77}
 	}
 	threads := make([]api.Thread, 4)
-	threads[0] = api.Thread{Base: 5, Code: codes[:3]}
-	threads[1] = api.Thread{Base: 5, Code: codes[:2]}
+	threads[0] = api.Thread{Base: 5, Period: 4, Deadline: 1, Code: codes[:3]}
+	threads[1] = api.Thread{Base: 5, Offset: 1, Period: 3, Deadline: 3, Code: codes[:2]}
 	threads[2] = api.Thread{Base: 88}
 	mutexes := []api.Mutex{{}, {Kind: 55}}
 	sems := []api.Sem{{First: 1, Most: 2}, {First: 66}}
@@ -27,14 +27,24 @@ func roomySet() (api.Set, func() string) {
 	return set, whole
 }
 
+// move: Picks and, now and then, a Tick.
+func move(k *donate.Kernel, i int) (api.Report, []api.Miss) {
+	report, _ := k.Pick(0)
+	if i%3 != 1 {
+		return report, nil
+	}
+	missed, _ := k.Tick()
+	return report, missed
+}
+
 // P2: nothing handed in is written into, nor its spare room.
 func TestSetIsNotWritten(t *testing.T) {
 	set, whole := roomySet()
 	before := whole()
 	donate.Check(set)
 	k := begin(t, set)
-	for i := 0; i < 20; i++ {
-		k.Pick(0)
+	for i := 0; i < 40; i++ {
+		move(k, i)
 		seen(k)
 	}
 	if after := whole(); after != before {
@@ -52,14 +62,17 @@ func TestSetIsNotKept(t *testing.T) {
 		for at := range set.Threads[i].Code {
 			set.Threads[i].Code[at] = api.Instr{Op: api.OpEnd, A: 9}
 		}
-		set.Threads[i] = api.Thread{Base: 200, Offset: 3}
+		set.Threads[i] = api.Thread{Base: 200, Offset: 3, Period: 1, Deadline: 1}
 	}
-	for i := 0; i < 12; i++ {
-		got, _ := k.Pick(0)
-		want, _ := same.Pick(0)
-		if got != want || seen(k) != seen(same) {
-			t.Errorf("P2: pick %d: %+v, want %+v", i, got, want)
+	for i := 0; i < 40; i++ {
+		got, gotMissed := move(k, i)
+		want, wantMissed := move(same, i)
+		if got != want || !sameMisses(gotMissed, wantMissed) || seen(k) != seen(same) {
+			t.Errorf("P2: move %d: %+v, %v, want %+v, %v", i, got, gotMissed, want, wantMissed)
 		}
+	}
+	if len(k.Misses()) == 0 {
+		t.Errorf("P2: no miss: the moves say too little")
 	}
 }
 
@@ -83,12 +96,44 @@ func TestAnswersAreFresh(t *testing.T) {
 	runs(t, k, -1, 1, -1)
 }
 
+// spoil writes over a list of misses and its spare room.
+func spoil(list []api.Miss) {
+	whole := list[:cap(list)]
+	for i := range whole {
+		whole[i] = api.Miss{Thread: 99, Job: 99, Time: 99}
+	}
+}
+
+// P2, P11: so are the misses, those of a Tick and those of all time.
+func TestMissesAreFresh(t *testing.T) {
+	late := api.Thread{Period: 1, Deadline: 1}
+	k := begin(t, workers(1, late, late, late))
+	var want []api.Miss
+	for now := 1; now < 20; now++ {
+		ofTick := []api.Miss{{Thread: 0, Job: now - 1, Time: now}, {Thread: 1, Job: now - 1, Time: now}, {Thread: 2, Job: now - 1, Time: now}}
+		want = append(want, ofTick...)
+		missed, _ := k.Tick()
+		all := k.Misses()
+		again := k.Misses()
+		spoil(again)
+		if !sameMisses(missed, ofTick) || !sameMisses(all, want) {
+			t.Fatalf("P2, P11: Tick = %v, Misses = %v, want %v, %v", missed, all, ofTick, want)
+		}
+		spoil(missed)
+		if !sameMisses(all, want) {
+			t.Fatalf("P2: Tick and Misses share memory")
+		}
+		spoil(all)
+		misses(t, k, want...)
+	}
+}
+
 // P2: only Pick and Tick change a kernel.
 func TestLookingChangesNothing(t *testing.T) {
 	set, _ := roomySet()
 	k := begin(t, set)
 	looked := begin(t, set)
-	for i := 0; i < 12; i++ {
+	for i := 0; i < 40; i++ {
 		for n := -1; n < 3; n++ {
 			looked.Look(n)
 			looked.Running()
@@ -99,10 +144,10 @@ func TestLookingChangesNothing(t *testing.T) {
 			looked.Count(n)
 			looked.Messages(n)
 		}
-		k.Pick(0)
-		looked.Pick(0)
+		move(k, i)
+		move(looked, i)
 		if seen(k) != seen(looked) {
-			t.Errorf("P2: pick %d: %s, want %s", i, seen(looked), seen(k))
+			t.Errorf("P2: move %d: %s, want %s", i, seen(looked), seen(k))
 		}
 	}
 }
@@ -113,10 +158,10 @@ func TestKernelsAreApart(t *testing.T) {
 	k := begin(t, set)
 	other := begin(t, set)
 	before := seen(other)
-	for i := 0; i < 12; i++ {
-		k.Pick(0)
+	for i := 0; i < 40; i++ {
+		move(k, i)
 		if seen(other) != before {
-			t.Errorf("P2: pick %d of another kernel: %s, was %s", i, seen(other), before)
+			t.Errorf("P2: move %d of another kernel: %s, was %s", i, seen(other), before)
 		}
 	}
 }

@@ -37,19 +37,10 @@ func (k *Kernel) do(t int, instr api.Instr) api.Code {
 		k.drawTicket(t)
 	case api.OpPrio:
 		k.threads[instr.A].base = instr.B
+	case api.OpSleep:
+		return k.beginWait(t, api.ForTime, 0, instr.A)
 	}
 	return api.Done
-}
-
-// endJob ends the thread's job. If another is released it begins behind the
-// others of its level.
-func (k *Kernel) endJob(t int) {
-	k.threads[t].ended++
-	k.threads[t].at = 0
-	k.threads[t].last = api.Done
-	if k.hasJob(t) {
-		k.drawTicket(t)
-	}
 }
 
 // jumpWhen goes on at a place if the thread's last code is the given one.

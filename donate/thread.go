@@ -6,42 +6,39 @@ import "donate/api"
 type thread struct {
 	code     []api.Instr
 	base     int
+	first    int // when job 0 is released
+	period   int
+	deadline int
 	at       int
 	last     api.Code
 	released int
 	ended    int
+	wait     wait
 	ticket   int // its rank among the last tickets of all threads
 }
 
 // newThreads makes threads without jobs. Codes are copied, because their owner
 // may write over them later.
-func newThreads(given []api.Thread) []thread {
+func newThreads(given []api.Thread, start int) []thread {
 	threads := make([]thread, len(given))
 	for t, from := range given {
 		code := make([]api.Instr, len(from.Code))
 		copy(code, from.Code)
-		threads[t] = thread{code: code, base: from.Base, ticket: t}
+		threads[t] = thread{
+			code:     code,
+			base:     from.Base,
+			first:    start + from.Offset,
+			period:   from.Period,
+			deadline: from.Deadline,
+			ticket:   t,
+		}
 	}
 	return threads
 }
 
-// release gives thread t one job more.
-func (k *Kernel) release(t int) {
-	wasIdle := !k.hasJob(t)
-	k.threads[t].released++
-	if wasIdle {
-		k.drawTicket(t)
-	}
-}
-
-func (k *Kernel) hasJob(t int) bool {
-	return k.threads[t].released > k.threads[t].ended
-}
-
-// awake tells whether thread t could run. Nothing makes a thread wait yet, so
-// a job is all that it needs.
+// awake tells whether thread t could run.
 func (k *Kernel) awake(t int) bool {
-	return k.hasJob(t)
+	return k.hasJob(t) && !k.waits(t)
 }
 
 // drawTicket puts thread t behind all others of its level. Tickets are kept as
@@ -73,8 +70,11 @@ func (k *Kernel) goesAhead(a int, b int) bool {
 }
 
 func (k *Kernel) state(t int) int {
-	if !k.awake(t) {
+	if !k.hasJob(t) {
 		return api.Idle
+	}
+	if k.waits(t) {
+		return api.Blocked
 	}
 	if placeOf(k.workers, t) == none {
 		return api.Ready
@@ -94,5 +94,8 @@ func (k *Kernel) view(t int) api.View {
 		Last:     seen.last,
 		Released: seen.released,
 		Ended:    seen.ended,
+		For:      seen.wait.what,
+		Of:       seen.wait.of,
+		Until:    seen.wait.until,
 	}
 }

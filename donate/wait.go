@@ -1,0 +1,78 @@
+package donate
+
+import "donate/api"
+
+// endless stands for a wait that no time ends.
+const endless = -1
+
+// wait: what a thread waits for. The zero wait is that of a thread that does
+// not wait.
+type wait struct {
+	what  int
+	of    int
+	until int // a time, or endless
+}
+
+func (k *Kernel) waits(t int) bool {
+	return k.threads[t].wait.what != api.ForNothing
+}
+
+// beginWait makes thread t wait for a number of ticks, or endless.
+func (k *Kernel) beginWait(t int, what int, of int, ticks int) api.Code {
+	until := endless
+	if ticks != endless {
+		until = k.now + ticks
+	}
+	k.threads[t].wait = wait{what: what, of: of, until: until}
+	k.waiters = append(k.waiters, t)
+	return api.Waits
+}
+
+// endWait makes thread t awake again; its wait ended with the given code.
+func (k *Kernel) endWait(t int, code api.Code) {
+	k.waiters = without(k.waiters, t)
+	k.threads[t].wait = wait{}
+	k.threads[t].last = code
+	k.drawTicket(t)
+}
+
+// without copies a list but for an entry.
+func without(list []int, entry int) []int {
+	var rest []int
+	for _, found := range list {
+		if found != entry {
+			rest = append(rest, found)
+		}
+	}
+	return rest
+}
+
+// endDueWaits ends the waits whose time is now, in the order in which they
+// began.
+func (k *Kernel) endDueWaits() {
+	due := k.dueWaiters()
+	for _, t := range due {
+		code := codeInTime(k.threads[t].wait.what)
+		k.endWait(t, code)
+	}
+}
+
+// dueWaiters makes a list of its own, because k.waiters changes while waits end.
+func (k *Kernel) dueWaiters() []int {
+	var due []int
+	for _, t := range k.waiters {
+		if k.threads[t].wait.until == k.now {
+			due = append(due, t)
+		}
+	}
+	return due
+}
+
+// codeInTime tells what a wait ends with when its time has come: only a sleep
+// was meant to last that long.
+func codeInTime(what int) api.Code {
+	if what == api.ForTime {
+		return api.Done
+	}
+	return api.TimedOut
+}
