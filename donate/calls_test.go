@@ -73,7 +73,11 @@ func anyNumber(d *dice) int {
 func anyThread(d *dice) api.Thread {
 	thread := api.Thread{Base: anyNumber(d), Offset: d.below(2), Period: 5, Deadline: anyNumber(d)}
 	for n := d.below(5); n > 0; n-- {
-		thread.Code = append(thread.Code, api.Instr{Op: d.below(13), A: d.below(2), B: d.below(2)})
+		instr := api.Instr{Op: d.below(13), A: d.below(2), B: d.below(2)}
+		if instr.Op == api.OpLock {
+			instr.B = d.below(3) - 1
+		}
+		thread.Code = append(thread.Code, instr)
 	}
 	return thread
 }
@@ -102,6 +106,7 @@ func callAll(k *donate.Kernel, n int) {
 	k.Look(n)
 	k.Owner(n)
 	k.Waiting(n, n)
+	k.Waiting(api.ForMutex, n)
 	k.Count(n)
 	k.Messages(n)
 	k.Now()

@@ -10,7 +10,11 @@ import (
 type Kernel struct {
 	now     int
 	threads []thread
+	mutexes []mutex
+	sems    int   // how many there are
+	queues  int   // how many there are
 	workers []int // by worker the thread that runs on it, or none
+	tickets []int // all threads, in the order of the last tickets that they drew
 	waiters []int // the threads that wait, in the order in which they began to
 	misses  []api.Miss
 }
@@ -28,8 +32,18 @@ func New(set api.Set) (*Kernel, api.Errno) {
 		return nil, fault.Err
 	}
 	threads := newThreads(set.Threads, set.Start)
+	mutexes := newMutexes(set.Mutexes)
 	workers := freeWorkers(set.Workers)
-	k := &Kernel{now: set.Start, threads: threads, workers: workers}
+	tickets := firstTickets(len(set.Threads))
+	k := &Kernel{
+		now:     set.Start,
+		threads: threads,
+		mutexes: mutexes,
+		sems:    len(set.Sems),
+		queues:  len(set.Queues),
+		workers: workers,
+		tickets: tickets,
+	}
 	k.releaseJobs()
 	k.giveOutWorkers()
 	return k, api.OK
@@ -89,10 +103,20 @@ func (k *Kernel) Misses() []api.Miss {
 }
 
 // Owner tells who owns a mutex (P13).
-func (k *Kernel) Owner(m int) (int, api.Errno) { return 0, api.OK }
+func (k *Kernel) Owner(m int) (int, api.Errno) {
+	if m < 0 || m >= len(k.mutexes) {
+		return 0, api.ErrArg
+	}
+	return k.mutexes[m].owner, api.OK
+}
 
 // Waiting tells who waits for a mutex, a semaphore or a queue (P13).
-func (k *Kernel) Waiting(what int, i int) ([]int, api.Errno) { return nil, api.OK }
+func (k *Kernel) Waiting(what int, i int) ([]int, api.Errno) {
+	if i < 0 || i >= k.howMany(what) {
+		return nil, api.ErrArg
+	}
+	return k.waitersInOrder(what, i), api.OK
+}
 
 // Count tells what a semaphore counts (P14).
 func (k *Kernel) Count(s int) (int, api.Errno) { return 0, api.OK }

@@ -27,8 +27,24 @@ func prio(thread int, base int) api.Instr { return api.Instr{Op: api.OpPrio, A: 
 
 func sleep(ticks int) api.Instr { return api.Instr{Op: api.OpSleep, A: ticks} }
 
+func lock(m int, ticks int) api.Instr { return api.Instr{Op: api.OpLock, A: m, B: ticks} }
+
+func unlock(m int) api.Instr { return api.Instr{Op: api.OpUnlock, A: m} }
+
 func workers(n int, threads ...api.Thread) api.Set {
 	return api.Set{Workers: n, Threads: threads}
+}
+
+// inherit: a set with n Inherit mutexes.
+func inherit(n int, set api.Set) api.Set {
+	set.Mutexes = make([]api.Mutex, n)
+	return set
+}
+
+// ceiling: a set with one more mutex, a Ceiling one.
+func ceiling(top int, set api.Set) api.Set {
+	set.Mutexes = append(set.Mutexes, api.Mutex{Kind: api.Ceiling, Top: top})
+	return set
 }
 
 // begin: a kernel of a set that may be.
@@ -41,22 +57,25 @@ func begin(t *testing.T, set api.Set) *donate.Kernel {
 	return k
 }
 
-// picks: Pick(w) must answer the report of a thread, a place and Done.
-func picks(t *testing.T, k *donate.Kernel, w int, thread int, at int) {
+// answers: Pick(w) must answer the report of a thread, a place and a code.
+func answers(t *testing.T, k *donate.Kernel, w int, thread int, at int, with api.Code) {
 	t.Helper()
-	want := api.Report{Thread: thread, At: at, Code: api.Done}
+	want := api.Report{Thread: thread, At: at, Code: with}
 	if got, err := k.Pick(w); err != api.OK || got != want {
 		t.Errorf("P7: Pick(%d) = %+v, %d, want %+v", w, got, err, want)
 	}
 }
 
+// picks: Pick(w) must answer Done.
+func picks(t *testing.T, k *donate.Kernel, w int, thread int, at int) {
+	t.Helper()
+	answers(t, k, w, thread, at, api.Done)
+}
+
 // rests: Pick(w) must answer that the thread waits from that place on.
 func rests(t *testing.T, k *donate.Kernel, w int, thread int, at int) {
 	t.Helper()
-	want := api.Report{Thread: thread, At: at, Code: api.Waits}
-	if got, err := k.Pick(w); err != api.OK || got != want {
-		t.Errorf("P10: Pick(%d) = %+v, %d, want %+v", w, got, err, want)
-	}
+	answers(t, k, w, thread, at, api.Waits)
 }
 
 // ticks: a Tick must answer these misses.
@@ -90,16 +109,53 @@ func looks(t *testing.T, k *donate.Kernel, thread int, want api.View) {
 	}
 }
 
-// seen: all that can be seen of a kernel's threads, workers, time and misses.
+// levels: the levels of the threads from 0 on.
+func levels(t *testing.T, k *donate.Kernel, want ...int) {
+	t.Helper()
+	var got []int
+	for thread := range want {
+		view, _ := k.Look(thread)
+		got = append(got, view.Level)
+	}
+	if fmt.Sprint(got) != fmt.Sprint(want) {
+		t.Errorf("P8: the levels are %v, want %v", got, want)
+	}
+}
+
+// owners: the owners of the mutexes from 0 on.
+func owners(t *testing.T, k *donate.Kernel, want ...int) {
+	t.Helper()
+	for m, thread := range want {
+		if got, err := k.Owner(m); err != api.OK || got != thread {
+			t.Errorf("P13: Owner(%d) = %d, %d, want %d", m, got, err, thread)
+		}
+	}
+}
+
+// lines: those who wait for a mutex, in the order in which they are given it.
+func lines(t *testing.T, k *donate.Kernel, m int, want ...int) {
+	t.Helper()
+	if got, err := k.Waiting(api.ForMutex, m); err != api.OK || fmt.Sprint(got) != fmt.Sprint(want) {
+		t.Errorf("P13: Waiting(ForMutex, %d) = %v, %d, want %v", m, got, err, want)
+	}
+}
+
+// seen: all that can be seen of a kernel.
 func seen(k *donate.Kernel) string {
 	text := fmt.Sprint(k.Now(), k.Running(), k.Misses())
-	for thread := 0; ; thread++ {
+	for thread := 0; thread < api.MaxThreads; thread++ {
 		view, err := k.Look(thread)
-		if err != api.OK {
-			return text
-		}
-		text += fmt.Sprintf(" %+v", view)
+		text += fmt.Sprintf(" %+v %d", view, err)
 	}
+	for i := 0; i < api.MaxMutexes; i++ {
+		owner, err := k.Owner(i)
+		text += fmt.Sprint(" ", owner, err)
+		for what := api.ForMutex; what <= api.ForQueue; what++ {
+			line, err := k.Waiting(what, i)
+			text += fmt.Sprint(" ", line, err)
+		}
+	}
+	return text
 }
 
 // dice: numbers that look like chance, the same in every run.

@@ -1,61 +1,28 @@
 package donate
 
 import (
+	"fmt"
 	"testing"
 
 	"donate/api"
 )
 
-// lasts: a Pick of worker 0 must do thread 0's instruction at a place, and then
-// its At and Last must be the given ones.
-func lasts(t *testing.T, k *Kernel, place int, at int, last api.Code) {
-	t.Helper()
-	report, _ := k.Pick(0)
-	view, _ := k.Look(0)
-	if report != (api.Report{At: place}) || view.At != at || view.Last != last {
-		t.Errorf("P7: %+v, %+v, want place %d, At %d, Last %d", report, view, place, at, last)
-	}
-}
-
-// P7: When leaves Last as it is, every other instruction sets it. (No thread
-// that is awake has another Last than Done yet, so the test sets Last.)
-func TestLast(t *testing.T) {
-	codes := []api.Instr{{Op: api.OpWhen, A: 0, B: 3}, {Op: api.OpWhen, A: 7, B: 3}, {}, {Op: api.OpWork}, {Op: api.OpWhen, A: 7}}
-	k, err := New(api.Set{Workers: 1, Threads: []api.Thread{{Code: codes}}})
-	if err != api.OK {
-		t.Fatalf("P4: New's error %d", err)
-	}
-	k.threads[0].last = api.Full
-	lasts(t, k, 0, 1, api.Full)
-	lasts(t, k, 1, 3, api.Full)
-	lasts(t, k, 3, 4, api.Done)
-	lasts(t, k, 4, 5, api.Done)
-	k.threads[0].last = api.Full
-	lasts(t, k, 5, 0, api.Done)
-}
-
-// Tickets stay below the number of threads, and the last drawn is the greatest.
-func TestTicketsAreRanks(t *testing.T) {
-	k := &Kernel{threads: make([]thread, 5)}
-	for i := range k.threads {
-		k.threads[i].ticket = i
-	}
-	drawn := []int{3, 0, 3, 4, 4, 1, 2, 0, 1, 3}
-	for _, t := range drawn {
+// Tickets do not grow with their number, and the last drawn is the greatest.
+func TestTicketsDoNotGrow(t *testing.T) {
+	k := &Kernel{tickets: firstTickets(5)}
+	for _, t := range []int{3, 0, 3, 4, 4, 1, 2, 0, 1, 3} {
 		k.drawTicket(t)
 	}
-	for i, want := range []int{2, 3, 1, 4, 0} {
-		if got := k.threads[i].ticket; got != want {
-			t.Errorf("P5: the ticket of thread %d is %d, want %d", i, got, want)
-		}
+	if got := fmt.Sprint(k.tickets); got != "[4 2 0 1 3]" {
+		t.Errorf("P5: the threads by their tickets are %s", got)
 	}
 }
 
 // P10: of the waits that end at one tick only a sleep ends with Done, and they
-// end in the order in which they began. (No instruction waits for a thing yet,
-// so the test lets the threads wait.)
+// end in the order in which they began. (No instruction waits for a semaphore or
+// a queue yet, so the test lets the threads wait.)
 func TestEveryWaitEnds(t *testing.T) {
-	k, err := New(api.Set{Workers: 1, Start: 40, Threads: make([]api.Thread, 6)})
+	k, err := New(api.Set{Workers: 1, Start: 40, Threads: make([]api.Thread, 6), Mutexes: make([]api.Mutex, 1)})
 	if err != api.OK {
 		t.Fatalf("P4: New's error %d", err)
 	}

@@ -39,11 +39,12 @@ func (k *Kernel) release(t int) {
 }
 
 // endJob ends the thread's job. If another is released it begins behind the
-// others of its level.
+// others of its level, also behind those whom the mutexes are given to.
 func (k *Kernel) endJob(t int) {
 	k.threads[t].ended++
 	k.threads[t].at = 0
 	k.threads[t].last = api.Done
+	k.unlockAll(t)
 	if k.hasJob(t) {
 		k.drawTicket(t)
 	}

@@ -6,14 +6,17 @@ import (
 	"testing"
 
 	"donate/api"
+	"donate/donate"
 )
 
-// model: P4 to P11 told a second time, with tickets and waits that are counted,
-// and with jobs that are worked out from the time alone.
+// model: P4 to P13 told a second time, with tickets and waits that are counted,
+// with jobs that are worked out from the time alone, and with levels that are
+// worked out by recursion.
 type model struct {
 	set     api.Set
 	now     int
 	threads []modelThread
+	owned   map[int]int // by mutex its owner
 	running []int
 	counted int
 	misses  []api.Miss
@@ -23,12 +26,12 @@ type modelThread struct {
 	base, at, ended int
 	last            api.Code
 	ticket          int
-	sleeps          bool
+	what, of        int // what it waits for
 	until, began    int
 }
 
 func newModel(set api.Set) *model {
-	m := &model{set: set, now: set.Start}
+	m := &model{set: set, now: set.Start, owned: map[int]int{}}
 	for i, thread := range set.Threads {
 		m.threads = append(m.threads, modelThread{base: thread.Base})
 		m.draw(i)
@@ -59,7 +62,111 @@ func (m *model) released(i int) int {
 }
 
 func (m *model) awake(i int) bool {
-	return m.released(i) > m.threads[i].ended && !m.threads[i].sleeps
+	return m.released(i) > m.threads[i].ended && m.threads[i].what == api.ForNothing
+}
+
+func (m *model) level(i int) int {
+	level := m.threads[i].base
+	for mutex, owner := range m.owned {
+		if owner == i {
+			level = max(level, m.lent(mutex))
+		}
+	}
+	return level
+}
+
+func (m *model) lent(mutex int) int {
+	if m.set.Mutexes[mutex].Kind == api.Ceiling {
+		return m.set.Mutexes[mutex].Top
+	}
+	lent := 0
+	for i, thread := range m.threads {
+		if thread.what == api.ForMutex && thread.of == mutex {
+			lent = max(lent, m.level(i))
+		}
+	}
+	return lent
+}
+
+// sorted: the greatest level first, of one level the least key.
+func (m *model) sorted(line []int, key func(modelThread) int) []int {
+	sort.Slice(line, func(i, j int) bool {
+		a, b := m.level(line[i]), m.level(line[j])
+		if a != b {
+			return a > b
+		}
+		return key(m.threads[line[i]]) < key(m.threads[line[j]])
+	})
+	return line
+}
+
+func (m *model) waiting(what int, of int) []int {
+	var line []int
+	for i, thread := range m.threads {
+		if thread.what == what && thread.of == of {
+			line = append(line, i)
+		}
+	}
+	return m.sorted(line, func(thread modelThread) int { return thread.began })
+}
+
+func (m *model) wait(i int, what int, of int, ticks int) api.Code {
+	m.counted++
+	own := &m.threads[i]
+	own.what, own.of, own.until, own.began = what, of, m.now+ticks, m.counted
+	if ticks < 0 {
+		own.until = -1
+	}
+	return api.Waits
+}
+
+func (m *model) wake(i int, last api.Code) {
+	own := &m.threads[i]
+	own.what, own.of, own.until, own.last = api.ForNothing, 0, 0, last
+	m.draw(i)
+}
+
+// needs tells whether thread i would have to wait for thread j to go on.
+func (m *model) needs(i int, j int) bool {
+	if i == j {
+		return true
+	}
+	return m.threads[i].what == api.ForMutex && m.needs(m.owned[m.threads[i].of], j)
+}
+
+func (m *model) lock(i int, mutex int, ticks int) api.Code {
+	owner, owned := m.owned[mutex]
+	given := m.set.Mutexes[mutex]
+	if owned && owner == i {
+		return api.Relock
+	}
+	if given.Kind == api.Ceiling && given.Top < m.threads[i].base {
+		return api.TooHigh
+	}
+	if !owned {
+		m.owned[mutex] = i
+		return api.Done
+	}
+	if m.needs(owner, i) {
+		return api.Cycle
+	}
+	if ticks == 0 {
+		return api.TimedOut
+	}
+	return m.wait(i, api.ForMutex, mutex, ticks)
+}
+
+func (m *model) unlock(i int, mutex int) api.Code {
+	if owner, owned := m.owned[mutex]; !owned || owner != i {
+		return api.NotOwner
+	}
+	line := m.waiting(api.ForMutex, mutex)
+	delete(m.owned, mutex)
+	if len(line) > 0 {
+		m.owned[mutex] = line[0]
+		m.wake(line[0], api.Done)
+	}
+	return api.Done
 }
 
 func (m *model) share() {
@@ -69,13 +176,7 @@ func (m *model) share() {
 			line = append(line, i)
 		}
 	}
-	sort.Slice(line, func(i, j int) bool {
-		a, b := m.threads[line[i]], m.threads[line[j]]
-		if a.base != b.base {
-			return a.base > b.base
-		}
-		return a.ticket < b.ticket
-	})
+	line = m.sorted(line, func(thread modelThread) int { return thread.ticket })
 	runs := map[int]bool{}
 	for i := 0; i < len(line) && i < len(m.running); i++ {
 		runs[line[i]] = true
@@ -106,21 +207,32 @@ func (m *model) pick(w int) api.Report {
 	report := api.Report{Thread: i, At: own.at}
 	instr := append(append(code{}, m.set.Threads[i].Code...), end)[own.at]
 	own.at++
-	switch {
-	case instr.Op == api.OpEnd:
+	last := own.last
+	switch instr.Op {
+	case api.OpEnd:
 		own.at = 0
 		own.ended++
+		for mutex := range m.set.Mutexes {
+			m.unlock(i, mutex)
+		}
 		m.draw(i)
-	case instr.Op == api.OpYield:
+	case api.OpYield:
 		m.draw(i)
-	case instr.Op == api.OpPrio:
+	case api.OpPrio:
 		m.threads[instr.A].base = instr.B
-	case instr.Op == api.OpWhen && instr.A == 0:
-		own.at = instr.B
-	case instr.Op == api.OpSleep:
-		m.counted++
-		own.sleeps, own.until, own.began = true, m.now+instr.A, m.counted
-		report.Code, own.last = api.Waits, api.Waits
+	case api.OpWhen:
+		if int(last) == instr.A {
+			own.at = instr.B
+		}
+	case api.OpSleep:
+		report.Code = m.wait(i, api.ForTime, 0, instr.A)
+	case api.OpLock:
+		report.Code = m.lock(i, instr.A, instr.B)
+	case api.OpUnlock:
+		report.Code = m.unlock(i, instr.A)
+	}
+	if instr.Op != api.OpWhen {
+		own.last = report.Code
 	}
 	m.share()
 	return report
@@ -145,7 +257,7 @@ func (m *model) tick() []api.Miss {
 		}
 	}
 	m.now++
-	m.wake()
+	m.endWaits()
 	for _, i := range idle {
 		if m.awake(i) {
 			m.draw(i)
@@ -155,27 +267,29 @@ func (m *model) tick() []api.Miss {
 	return missed
 }
 
-func (m *model) wake() {
+func (m *model) endWaits() {
 	var due []int
 	for i, thread := range m.threads {
-		if thread.sleeps && thread.until == m.now {
+		if thread.what != api.ForNothing && thread.until == m.now {
 			due = append(due, i)
 		}
 	}
 	sort.Slice(due, func(i, j int) bool { return m.threads[due[i]].began < m.threads[due[j]].began })
 	for _, i := range due {
-		m.threads[i].sleeps = false
-		m.threads[i].last = api.Done
-		m.draw(i)
+		if m.threads[i].what == api.ForTime {
+			m.wake(i, api.Done)
+		} else {
+			m.wake(i, api.TimedOut)
+		}
 	}
 }
 
 func (m *model) view(i int) api.View {
 	own := m.threads[i]
-	v := api.View{Base: own.base, Level: own.base, At: own.at, Last: own.last, Released: m.released(i), Ended: own.ended}
+	v := api.View{Base: own.base, Level: m.level(i), At: own.at, Last: own.last, Released: m.released(i), Ended: own.ended}
 	switch {
-	case own.sleeps:
-		v.State, v.For, v.Until = api.Blocked, api.ForTime, own.until
+	case own.what != api.ForNothing:
+		v.State, v.For, v.Of, v.Until = api.Blocked, own.what, own.of, own.until
 	case m.awake(i):
 		v.State = api.Ready
 	}
@@ -187,14 +301,21 @@ func (m *model) view(i int) api.View {
 	return v
 }
 
-func chanceInstr(d *dice, length int, threads int) api.Instr {
+// chanceInstr: mostly locks, if there are mutexes.
+func chanceInstr(d *dice, length int, set api.Set) api.Instr {
+	if mutexes := len(set.Mutexes); mutexes > 0 && d.below(5) > 1 {
+		if d.below(6) == 0 {
+			return unlock(d.below(mutexes))
+		}
+		return lock(d.below(mutexes), max(-1, d.below(9)-4))
+	}
 	switch d.below(8) {
 	case 0, 1:
 		return yield
 	case 2:
-		return when(d.below(2), d.below(length+1))
+		return when(d.below(8), d.below(length+1))
 	case 3:
-		return prio(d.below(threads), d.below(4))
+		return prio(d.below(len(set.Threads)), d.below(6))
 	case 4, 5:
 		return sleep(1 + d.below(4))
 	case 6:
@@ -204,38 +325,62 @@ func chanceInstr(d *dice, length int, threads int) api.Instr {
 }
 
 func chanceSet(d *dice) api.Set {
-	set := api.Set{Workers: 1 + d.below(5), Start: d.below(5), Threads: make([]api.Thread, 1+d.below(9))}
+	set := api.Set{Workers: 1 + d.below(5), Start: d.below(5), Threads: make([]api.Thread, 1+d.below(12)), Mutexes: make([]api.Mutex, d.below(9))}
+	for i := range set.Mutexes {
+		if d.below(3) == 0 {
+			set.Mutexes[i] = api.Mutex{Kind: api.Ceiling, Top: d.below(6)}
+		}
+	}
 	for i := range set.Threads {
-		own := api.Thread{Base: d.below(4), Offset: d.below(4), Period: d.below(7), Code: make(code, d.below(7))}
+		own := api.Thread{Base: d.below(5), Offset: d.below(4), Period: d.below(7), Code: make(code, d.below(12))}
 		if own.Period == 0 {
 			own.Deadline = d.below(20)
 		} else {
 			own.Deadline = d.below(own.Period + 1)
 		}
 		for at := range own.Code {
-			own.Code[at] = chanceInstr(d, len(own.Code), len(set.Threads))
+			own.Code[at] = chanceInstr(d, len(own.Code), set)
 		}
 		set.Threads[i] = own
 	}
 	return set
 }
 
-// P4 to P11: many sets, step by step, against the model.
+// same: what can be seen of the kernel and of the model.
+func same(t *testing.T, k *donate.Kernel, m *model, step int) {
+	t.Helper()
+	if fmt.Sprint(k.Now(), k.Running()) != fmt.Sprint(m.now, m.running) {
+		t.Fatalf("P5, P6: %+v: step %d: Running = %v, want %v", m.set, step, k.Running(), m.running)
+	}
+	for i := range m.threads {
+		if got, _ := k.Look(i); got != m.view(i) {
+			t.Fatalf("P8, P9: %+v: step %d: Look(%d) = %+v, want %+v", m.set, step, i, got, m.view(i))
+		}
+	}
+	for i := range m.set.Mutexes {
+		want, owned := m.owned[i]
+		if !owned {
+			want = -1
+		}
+		owner, _ := k.Owner(i)
+		line, _ := k.Waiting(api.ForMutex, i)
+		if owner != want || fmt.Sprint(line) != fmt.Sprint(m.waiting(api.ForMutex, i)) {
+			t.Fatalf("P13: %+v: step %d: mutex %d: %d, %v, want %d, %v", m.set, step, i, owner, line, want, m.waiting(api.ForMutex, i))
+		}
+	}
+}
+
+// P4 to P13: many sets, step by step, against the model. All codes must come
+// often, lest the rounds say too little.
 func TestAgainstModel(t *testing.T) {
 	d := &dice{state: 9}
+	var codes [8]int
 	for round := 0; round < 3000; round++ {
 		set := chanceSet(d)
 		k := begin(t, set)
 		m := newModel(set)
 		for step := 0; step < 80; step++ {
-			if fmt.Sprint(k.Now(), k.Running()) != fmt.Sprint(m.now, m.running) {
-				t.Fatalf("P5, P6: %+v: step %d: Running = %v, want %v", set, step, k.Running(), m.running)
-			}
-			for i := range set.Threads {
-				if got, _ := k.Look(i); got != m.view(i) {
-					t.Fatalf("P8, P9: %+v: step %d: Look(%d) = %+v, want %+v", set, step, i, got, m.view(i))
-				}
-			}
+			same(t, k, m, step)
 			if d.below(4) == 0 {
 				ticks(t, k, m.tick()...)
 				continue
@@ -243,9 +388,15 @@ func TestAgainstModel(t *testing.T) {
 			w := d.below(set.Workers)
 			want := m.pick(w)
 			if got, err := k.Pick(w); err != api.OK || got != want {
-				t.Fatalf("P7: %+v: step %d: Pick(%d) = %+v, %d, want %+v", set, step, w, got, err, want)
+				t.Fatalf("P7, P12: %+v: step %d: Pick(%d) = %+v, %d, want %+v", set, step, w, got, err, want)
 			}
+			codes[want.Code]++
 		}
 		misses(t, k, m.misses...)
+	}
+	for i := api.Done; i < api.Full; i++ {
+		if codes[i] < 500 {
+			t.Errorf("the code %d came %d times", i, codes[i])
+		}
 	}
 }

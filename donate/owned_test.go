@@ -10,16 +10,16 @@ import (
 
 // roomySet: a set whose lists all have spare room, and the whole of these lists.
 func roomySet() (api.Set, func() string) {
-	codes := make(code, 6)
-	codes[0], codes[1], codes[2] = yield, prio(1, 7), sleep(2)
-	for i := 3; i < 6; i++ {
+	codes := make(code, 8)
+	codes[0], codes[1], codes[2], codes[3] = lock(0, 2), yield, prio(1, 7), sleep(2)
+	for i := 4; i < 8; i++ {
 		codes[i] = api.Instr{Op: 77, A: 77, B: 77}
 	}
 	threads := make([]api.Thread, 4)
-	threads[0] = api.Thread{Base: 5, Period: 4, Deadline: 1, Code: codes[:3]}
+	threads[0] = api.Thread{Base: 5, Period: 4, Deadline: 1, Code: codes[:4]}
 	threads[1] = api.Thread{Base: 5, Offset: 1, Period: 3, Deadline: 3, Code: codes[:2]}
 	threads[2] = api.Thread{Base: 88}
-	mutexes := []api.Mutex{{}, {Kind: 55}}
+	mutexes := []api.Mutex{{Kind: api.Ceiling, Top: 6}, {Kind: 55}}
 	sems := []api.Sem{{First: 1, Most: 2}, {First: 66}}
 	queues := []int{3, 99}
 	set := api.Set{Workers: 1, Start: 4, Threads: threads[:2], Mutexes: mutexes[:1], Sems: sems[:1], Queues: queues[:1]}
@@ -64,6 +64,9 @@ func TestSetIsNotKept(t *testing.T) {
 		}
 		set.Threads[i] = api.Thread{Base: 200, Offset: 3, Period: 1, Deadline: 1}
 	}
+	set.Mutexes[0] = api.Mutex{Top: 5}
+	set.Sems[0] = api.Sem{}
+	set.Queues[0] = 0
 	for i := 0; i < 40; i++ {
 		got, gotMissed := move(k, i)
 		want, wantMissed := move(same, i)

@@ -39,6 +39,10 @@ func (k *Kernel) do(t int, instr api.Instr) api.Code {
 		k.threads[instr.A].base = instr.B
 	case api.OpSleep:
 		return k.beginWait(t, api.ForTime, 0, instr.A)
+	case api.OpLock:
+		return k.lock(t, instr.A, instr.B)
+	case api.OpUnlock:
+		return k.unlock(t, instr.A)
 	}
 	return api.Done
 }

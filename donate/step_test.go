@@ -81,6 +81,32 @@ func TestWhen(t *testing.T) {
 	runs(t, k, -1)
 }
 
+// P7: When looks at a Last that is not Done, and leaves it as it is; every other
+// instruction, and the End, sets it.
+func TestWhenOfOtherCodes(t *testing.T) {
+	own := api.Thread{Period: 1, Code: code{unlock(0), when(0, 5), when(5, 5), when(6, 4), work, when(6, 0), work, unlock(0), end}}
+	k := begin(t, inherit(1, workers(1, own)))
+	ticks(t, k)
+	last := func(at int, want api.Code) {
+		t.Helper()
+		looks(t, k, 0, api.View{State: api.Running, At: at, Last: want, Released: 2})
+	}
+	answers(t, k, 0, 0, 0, api.NotOwner)
+	for at := 1; at < 4; at++ {
+		last(at, api.NotOwner)
+		picks(t, k, 0, 0, at)
+	}
+	last(4, api.NotOwner)
+	picks(t, k, 0, 0, 4)
+	last(5, api.Done)
+	picks(t, k, 0, 0, 5)
+	picks(t, k, 0, 0, 6)
+	answers(t, k, 0, 0, 7, api.NotOwner)
+	last(8, api.NotOwner)
+	picks(t, k, 0, 0, 8)
+	looks(t, k, 0, api.View{State: api.Running, Released: 2, Ended: 1})
+}
+
 // P7: a When to its own place stays there for ever.
 func TestWhenToItself(t *testing.T) {
 	k := begin(t, workers(1, api.Thread{Code: code{work, when(0, 1)}}))

@@ -14,7 +14,6 @@ type thread struct {
 	released int
 	ended    int
 	wait     wait
-	ticket   int // its rank among the last tickets of all threads
 }
 
 // newThreads makes threads without jobs. Codes are copied, because their owner
@@ -30,7 +29,6 @@ func newThreads(given []api.Thread, start int) []thread {
 			first:    start + from.Offset,
 			period:   from.Period,
 			deadline: from.Deadline,
-			ticket:   t,
 		}
 	}
 	return threads
@@ -39,34 +37,6 @@ func newThreads(given []api.Thread, start int) []thread {
 // awake tells whether thread t could run.
 func (k *Kernel) awake(t int) bool {
 	return k.hasJob(t) && !k.waits(t)
-}
-
-// drawTicket puts thread t behind all others of its level. Tickets are kept as
-// ranks, because a count of all that were ever drawn would outgrow an int.
-func (k *Kernel) drawTicket(t int) {
-	old := k.threads[t].ticket
-	for i := range k.threads {
-		if k.threads[i].ticket > old {
-			k.threads[i].ticket--
-		}
-	}
-	k.threads[t].ticket = len(k.threads) - 1
-}
-
-// level is worked out whenever it is asked for, so that it follows at once
-// what it hangs on.
-func (k *Kernel) level(t int) int {
-	return k.threads[t].base
-}
-
-// goesAhead tells whether thread a is ahead of thread b in the order.
-func (k *Kernel) goesAhead(a int, b int) bool {
-	levelA := k.level(a)
-	levelB := k.level(b)
-	if levelA != levelB {
-		return levelA > levelB
-	}
-	return k.threads[a].ticket < k.threads[b].ticket
 }
 
 func (k *Kernel) state(t int) int {

@@ -28,6 +28,41 @@ func (k *Kernel) beginWait(t int, what int, of int, ticks int) api.Code {
 	return api.Waits
 }
 
+// howMany tells how many there are of what may be waited for.
+func (k *Kernel) howMany(what int) int {
+	switch what {
+	case api.ForMutex:
+		return len(k.mutexes)
+	case api.ForSem:
+		return k.sems
+	case api.ForQueue:
+		return k.queues
+	}
+	return 0
+}
+
+// waitersInOrder lists those who wait for a thing, the one that would be given
+// it first.
+func (k *Kernel) waitersInOrder(what int, of int) []int {
+	var found []int
+	for _, t := range k.waiters {
+		if k.threads[t].wait.what == what && k.threads[t].wait.of == of {
+			found = append(found, t)
+		}
+	}
+	return k.byLevel(found)
+}
+
+// give gives a thing to one of those who wait for it, and tells to whom, or none.
+func (k *Kernel) give(what int, of int) int {
+	line := k.waitersInOrder(what, of)
+	if len(line) == 0 {
+		return none
+	}
+	k.endWait(line[0], api.Done)
+	return line[0]
+}
+
 // endWait makes thread t awake again; its wait ended with the given code.
 func (k *Kernel) endWait(t int, code api.Code) {
 	k.waiters = without(k.waiters, t)

@@ -38,18 +38,13 @@ func (k *Kernel) giveOutWorkers() {
 
 // awakeInOrder lists the awake threads, the one that goes ahead of all first.
 func (k *Kernel) awakeInOrder() []int {
-	var line []int
-	for t := range k.threads {
-		if !k.awake(t) {
-			continue
-		}
-		line = append(line, t)
-		for i := len(line) - 1; i > 0 && k.goesAhead(t, line[i-1]); i-- {
-			line[i] = line[i-1]
-			line[i-1] = t
+	var awake []int
+	for _, t := range k.tickets {
+		if k.awake(t) {
+			awake = append(awake, t)
 		}
 	}
-	return line
+	return k.byLevel(awake)
 }
 
 // freeAllBut takes the workers from the threads that are not chosen.
