@@ -74,7 +74,8 @@ func anyThread(d *dice) api.Thread {
 	thread := api.Thread{Base: anyNumber(d), Offset: d.below(2), Period: 5, Deadline: anyNumber(d)}
 	for n := d.below(5); n > 0; n-- {
 		instr := api.Instr{Op: d.below(13), A: d.below(2), B: d.below(2)}
-		if instr.Op == api.OpLock {
+		switch instr.Op {
+		case api.OpLock, api.OpDown, api.OpRecv:
 			instr.B = d.below(3) - 1
 		}
 		thread.Code = append(thread.Code, instr)
@@ -106,7 +107,9 @@ func callAll(k *donate.Kernel, n int) {
 	k.Look(n)
 	k.Owner(n)
 	k.Waiting(n, n)
-	k.Waiting(api.ForMutex, n)
+	for what := api.ForMutex; what <= api.ForQueue; what++ {
+		k.Waiting(what, n)
+	}
 	k.Count(n)
 	k.Messages(n)
 	k.Now()

@@ -11,8 +11,8 @@ type Kernel struct {
 	now     int
 	threads []thread
 	mutexes []mutex
-	sems    int   // how many there are
-	queues  int   // how many there are
+	sems    []sem
+	queues  []queue
 	workers []int // by worker the thread that runs on it, or none
 	tickets []int // all threads, in the order of the last tickets that they drew
 	waiters []int // the threads that wait, in the order in which they began to
@@ -33,14 +33,16 @@ func New(set api.Set) (*Kernel, api.Errno) {
 	}
 	threads := newThreads(set.Threads, set.Start)
 	mutexes := newMutexes(set.Mutexes)
+	sems := newSems(set.Sems)
+	queues := newQueues(set.Queues)
 	workers := freeWorkers(set.Workers)
 	tickets := firstTickets(len(set.Threads))
 	k := &Kernel{
 		now:     set.Start,
 		threads: threads,
 		mutexes: mutexes,
-		sems:    len(set.Sems),
-		queues:  len(set.Queues),
+		sems:    sems,
+		queues:  queues,
 		workers: workers,
 		tickets: tickets,
 	}
@@ -82,9 +84,7 @@ func (k *Kernel) Now() int { return k.now }
 
 // Running tells by worker which thread runs on it (P6).
 func (k *Kernel) Running() []int {
-	running := make([]int, len(k.workers))
-	copy(running, k.workers)
-	return running
+	return copyOf(k.workers)
 }
 
 // Look tells what can be seen of a thread (P9).
@@ -119,10 +119,29 @@ func (k *Kernel) Waiting(what int, i int) ([]int, api.Errno) {
 }
 
 // Count tells what a semaphore counts (P14).
-func (k *Kernel) Count(s int) (int, api.Errno) { return 0, api.OK }
+func (k *Kernel) Count(s int) (int, api.Errno) {
+	if s < 0 || s >= len(k.sems) {
+		return 0, api.ErrArg
+	}
+	return k.sems[s].count, api.OK
+}
 
 // Messages tells what lies in a queue (P15).
-func (k *Kernel) Messages(q int) ([]int, api.Errno) { return nil, api.OK }
+func (k *Kernel) Messages(q int) ([]int, api.Errno) {
+	if q < 0 || q >= len(k.queues) {
+		return nil, api.ErrArg
+	}
+	return copyOf(k.queues[q].messages), api.OK
+}
 
 // Run plays a script over a new kernel (P16).
-func Run(set api.Set, script []int) ([]api.Line, api.Errno) { return nil, api.OK }
+func Run(set api.Set, script []int) ([]api.Line, api.Errno) {
+	if len(script) > api.MaxScript {
+		return nil, api.ErrLong
+	}
+	k, err := New(set)
+	if err != api.OK {
+		return nil, err
+	}
+	return k.play(script), api.OK
+}

@@ -31,6 +31,14 @@ func lock(m int, ticks int) api.Instr { return api.Instr{Op: api.OpLock, A: m, B
 
 func unlock(m int) api.Instr { return api.Instr{Op: api.OpUnlock, A: m} }
 
+func down(s int, ticks int) api.Instr { return api.Instr{Op: api.OpDown, A: s, B: ticks} }
+
+func up(s int) api.Instr { return api.Instr{Op: api.OpUp, A: s} }
+
+func send(q int, message int) api.Instr { return api.Instr{Op: api.OpSend, A: q, B: message} }
+
+func recv(q int, ticks int) api.Instr { return api.Instr{Op: api.OpRecv, A: q, B: ticks} }
+
 func workers(n int, threads ...api.Thread) api.Set {
 	return api.Set{Workers: n, Threads: threads}
 }
@@ -44,6 +52,18 @@ func inherit(n int, set api.Set) api.Set {
 // ceiling: a set with one more mutex, a Ceiling one.
 func ceiling(top int, set api.Set) api.Set {
 	set.Mutexes = append(set.Mutexes, api.Mutex{Kind: api.Ceiling, Top: top})
+	return set
+}
+
+// counting: a set with one more semaphore.
+func counting(first int, most int, set api.Set) api.Set {
+	set.Sems = append(set.Sems, api.Sem{First: first, Most: most})
+	return set
+}
+
+// roomFor: a set with one more queue.
+func roomFor(messages int, set api.Set) api.Set {
+	set.Queues = append(set.Queues, messages)
 	return set
 }
 
@@ -132,11 +152,45 @@ func owners(t *testing.T, k *donate.Kernel, want ...int) {
 	}
 }
 
-// lines: those who wait for a mutex, in the order in which they are given it.
+// linesFor: those who wait for a thing, in the order in which they are given it.
+func linesFor(t *testing.T, k *donate.Kernel, what int, i int, want ...int) {
+	t.Helper()
+	if got, err := k.Waiting(what, i); err != api.OK || fmt.Sprint(got) != fmt.Sprint(want) {
+		t.Errorf("P13: Waiting(%d, %d) = %v, %d, want %v", what, i, got, err, want)
+	}
+}
+
+// lines: those who wait for a mutex.
 func lines(t *testing.T, k *donate.Kernel, m int, want ...int) {
 	t.Helper()
-	if got, err := k.Waiting(api.ForMutex, m); err != api.OK || fmt.Sprint(got) != fmt.Sprint(want) {
-		t.Errorf("P13: Waiting(ForMutex, %d) = %v, %d, want %v", m, got, err, want)
+	linesFor(t, k, api.ForMutex, m, want...)
+}
+
+// counts: what the semaphores from 0 on count.
+func counts(t *testing.T, k *donate.Kernel, want ...int) {
+	t.Helper()
+	for s, count := range want {
+		if got, err := k.Count(s); err != api.OK || got != count {
+			t.Errorf("P14: Count(%d) = %d, %d, want %d", s, got, err, count)
+		}
+	}
+}
+
+// holds: the messages in a queue.
+func holds(t *testing.T, k *donate.Kernel, q int, want ...int) {
+	t.Helper()
+	if got, err := k.Messages(q); err != api.OK || fmt.Sprint(got) != fmt.Sprint(want) {
+		t.Errorf("P15: Messages(%d) = %v, %d, want %v", q, got, err, want)
+	}
+}
+
+// gots: the last messages that the threads from 0 on received.
+func gots(t *testing.T, k *donate.Kernel, want ...int) {
+	t.Helper()
+	for thread, message := range want {
+		if view, err := k.Look(thread); err != api.OK || view.Got != message {
+			t.Errorf("P15: the Got of thread %d is %d, %d, want %d", thread, view.Got, err, message)
+		}
 	}
 }
 
@@ -149,7 +203,9 @@ func seen(k *donate.Kernel) string {
 	}
 	for i := 0; i < api.MaxMutexes; i++ {
 		owner, err := k.Owner(i)
-		text += fmt.Sprint(" ", owner, err)
+		count, countErr := k.Count(i)
+		messages, messagesErr := k.Messages(i)
+		text += fmt.Sprint(" ", owner, err, count, countErr, messages, messagesErr)
 		for what := api.ForMutex; what <= api.ForQueue; what++ {
 			line, err := k.Waiting(what, i)
 			text += fmt.Sprint(" ", line, err)

@@ -9,14 +9,16 @@ import (
 	"donate/donate"
 )
 
-// model: P4 to P13 told a second time, with tickets and waits that are counted,
+// model: P4 to P16 told a second time, with tickets and waits that are counted,
 // with jobs that are worked out from the time alone, and with levels that are
 // worked out by recursion.
 type model struct {
 	set     api.Set
 	now     int
 	threads []modelThread
-	owned   map[int]int // by mutex its owner
+	owned   map[int]int   // by mutex its owner
+	counts  map[int]int   // by semaphore
+	queues  map[int][]int // by queue its messages
 	running []int
 	counted int
 	misses  []api.Miss
@@ -24,6 +26,7 @@ type model struct {
 
 type modelThread struct {
 	base, at, ended int
+	got             int
 	last            api.Code
 	ticket          int
 	what, of        int // what it waits for
@@ -31,7 +34,10 @@ type modelThread struct {
 }
 
 func newModel(set api.Set) *model {
-	m := &model{set: set, now: set.Start, owned: map[int]int{}}
+	m := &model{set: set, now: set.Start, owned: map[int]int{}, counts: map[int]int{}, queues: map[int][]int{}}
+	for i, sem := range set.Sems {
+		m.counts[i] = sem.First
+	}
 	for i, thread := range set.Threads {
 		m.threads = append(m.threads, modelThread{base: thread.Base})
 		m.draw(i)
@@ -169,6 +175,64 @@ func (m *model) unlock(i int, mutex int) api.Code {
 	return api.Done
 }
 
+// given: one that waits for a thing gets it.
+func (m *model) given(what int, of int, message int) bool {
+	line := m.waiting(what, of)
+	if len(line) == 0 {
+		return false
+	}
+	if what == api.ForQueue {
+		m.threads[line[0]].got = message
+	}
+	m.wake(line[0], api.Done)
+	return true
+}
+
+func (m *model) down(i int, sem int, ticks int) api.Code {
+	switch {
+	case m.counts[sem] > 0:
+		m.counts[sem]--
+		return api.Done
+	case ticks == 0:
+		return api.TimedOut
+	}
+	return m.wait(i, api.ForSem, sem, ticks)
+}
+
+func (m *model) up(sem int) api.Code {
+	switch {
+	case m.given(api.ForSem, sem, 0):
+	case m.counts[sem] == m.set.Sems[sem].Most:
+		return api.Full
+	default:
+		m.counts[sem]++
+	}
+	return api.Done
+}
+
+func (m *model) send(queue int, message int) api.Code {
+	switch {
+	case m.given(api.ForQueue, queue, message):
+	case len(m.queues[queue]) == m.set.Queues[queue]:
+		return api.Full
+	default:
+		m.queues[queue] = append(m.queues[queue], message)
+	}
+	return api.Done
+}
+
+func (m *model) recv(i int, queue int, ticks int) api.Code {
+	switch {
+	case len(m.queues[queue]) > 0:
+		m.threads[i].got = m.queues[queue][0]
+		m.queues[queue] = m.queues[queue][1:]
+		return api.Done
+	case ticks == 0:
+		return api.TimedOut
+	}
+	return m.wait(i, api.ForQueue, queue, ticks)
+}
+
 func (m *model) share() {
 	var line []int
 	for i := range m.threads {
@@ -230,6 +294,14 @@ func (m *model) pick(w int) api.Report {
 		report.Code = m.lock(i, instr.A, instr.B)
 	case api.OpUnlock:
 		report.Code = m.unlock(i, instr.A)
+	case api.OpDown:
+		report.Code = m.down(i, instr.A, instr.B)
+	case api.OpUp:
+		report.Code = m.up(instr.A)
+	case api.OpSend:
+		report.Code = m.send(instr.A, instr.B)
+	case api.OpRecv:
+		report.Code = m.recv(i, instr.A, instr.B)
 	}
 	if instr.Op != api.OpWhen {
 		own.last = report.Code
@@ -286,7 +358,7 @@ func (m *model) endWaits() {
 
 func (m *model) view(i int) api.View {
 	own := m.threads[i]
-	v := api.View{Base: own.base, Level: m.level(i), At: own.at, Last: own.last, Released: m.released(i), Ended: own.ended}
+	v := api.View{Base: own.base, Level: m.level(i), At: own.at, Last: own.last, Got: own.got, Released: m.released(i), Ended: own.ended}
 	switch {
 	case own.what != api.ForNothing:
 		v.State, v.For, v.Of, v.Until = api.Blocked, own.what, own.of, own.until
@@ -301,13 +373,30 @@ func (m *model) view(i int) api.View {
 	return v
 }
 
-// chanceInstr: mostly locks, if there are mutexes.
+// chanceThing: an instruction for a mutex, a semaphore or a queue.
+func chanceThing(d *dice, set api.Set) api.Instr {
+	ticks := max(-1, d.below(9)-4)
+	mutexes, sems, queues := len(set.Mutexes), len(set.Sems), len(set.Queues)
+	thing := d.below(mutexes + sems + queues)
+	switch {
+	case thing < mutexes && d.below(6) == 0:
+		return unlock(thing)
+	case thing < mutexes:
+		return lock(thing, ticks)
+	case thing < mutexes+sems && d.below(2) == 0:
+		return up(thing - mutexes)
+	case thing < mutexes+sems:
+		return down(thing-mutexes, ticks)
+	case d.below(2) == 0:
+		return send(thing-mutexes-sems, d.below(256))
+	}
+	return recv(thing-mutexes-sems, ticks)
+}
+
+// chanceInstr: mostly what needs a mutex, a semaphore or a queue.
 func chanceInstr(d *dice, length int, set api.Set) api.Instr {
-	if mutexes := len(set.Mutexes); mutexes > 0 && d.below(5) > 1 {
-		if d.below(6) == 0 {
-			return unlock(d.below(mutexes))
-		}
-		return lock(d.below(mutexes), max(-1, d.below(9)-4))
+	if len(set.Mutexes)+len(set.Sems)+len(set.Queues) > 0 && d.below(5) > 1 {
+		return chanceThing(d, set)
 	}
 	switch d.below(8) {
 	case 0, 1:
@@ -325,11 +414,18 @@ func chanceInstr(d *dice, length int, set api.Set) api.Instr {
 }
 
 func chanceSet(d *dice) api.Set {
-	set := api.Set{Workers: 1 + d.below(5), Start: d.below(5), Threads: make([]api.Thread, 1+d.below(12)), Mutexes: make([]api.Mutex, d.below(9))}
+	set := api.Set{Workers: 1 + d.below(5), Start: d.below(5), Threads: make([]api.Thread, 1+d.below(12)), Mutexes: make([]api.Mutex, d.below(9)), Sems: make([]api.Sem, max(0, d.below(9)-4)), Queues: make([]int, max(0, d.below(9)-4))}
 	for i := range set.Mutexes {
 		if d.below(3) == 0 {
 			set.Mutexes[i] = api.Mutex{Kind: api.Ceiling, Top: d.below(6)}
 		}
+	}
+	for i := range set.Sems {
+		most := 1 + d.below(3)
+		set.Sems[i] = api.Sem{First: d.below(most + 1), Most: most}
+	}
+	for i := range set.Queues {
+		set.Queues[i] = 1 + d.below(3)
 	}
 	for i := range set.Threads {
 		own := api.Thread{Base: d.below(5), Offset: d.below(4), Period: d.below(7), Code: make(code, d.below(12))}
@@ -362,16 +458,38 @@ func same(t *testing.T, k *donate.Kernel, m *model, step int) {
 		if !owned {
 			want = -1
 		}
-		owner, _ := k.Owner(i)
-		line, _ := k.Waiting(api.ForMutex, i)
-		if owner != want || fmt.Sprint(line) != fmt.Sprint(m.waiting(api.ForMutex, i)) {
-			t.Fatalf("P13: %+v: step %d: mutex %d: %d, %v, want %d, %v", m.set, step, i, owner, line, want, m.waiting(api.ForMutex, i))
+		if owner, _ := k.Owner(i); owner != want {
+			t.Fatalf("P13: %+v: step %d: Owner(%d) = %d, want %d", m.set, step, i, owner, want)
+		}
+	}
+	sameThings(t, k, m, step)
+}
+
+// sameThings: the lines of those who wait, the counts and the messages.
+func sameThings(t *testing.T, k *donate.Kernel, m *model, step int) {
+	t.Helper()
+	for kind, many := range []int{len(m.set.Mutexes), len(m.set.Sems), len(m.set.Queues)} {
+		what := api.ForMutex + kind
+		for i := 0; i < many; i++ {
+			if line, err := k.Waiting(what, i); err != api.OK || fmt.Sprint(line) != fmt.Sprint(m.waiting(what, i)) {
+				t.Fatalf("P13: %+v: step %d: Waiting(%d, %d) = %v, want %v", m.set, step, what, i, line, m.waiting(what, i))
+			}
+		}
+	}
+	for i := range m.set.Sems {
+		if count, _ := k.Count(i); count != m.counts[i] {
+			t.Fatalf("P14: %+v: step %d: Count(%d) = %d, want %d", m.set, step, i, count, m.counts[i])
+		}
+	}
+	for i := range m.set.Queues {
+		if list, _ := k.Messages(i); fmt.Sprint(list) != fmt.Sprint(m.queues[i]) {
+			t.Fatalf("P15: %+v: step %d: Messages(%d) = %v, want %v", m.set, step, i, list, m.queues[i])
 		}
 	}
 }
 
-// P4 to P13: many sets, step by step, against the model. All codes must come
-// often, lest the rounds say too little.
+// P4 to P16: many sets, step by step, against the model; then the same steps as
+// a script. All codes must come often, lest the rounds say too little.
 func TestAgainstModel(t *testing.T) {
 	d := &dice{state: 9}
 	var codes [8]int
@@ -379,24 +497,36 @@ func TestAgainstModel(t *testing.T) {
 		set := chanceSet(d)
 		k := begin(t, set)
 		m := newModel(set)
+		var script []int
+		var want []api.Line
 		for step := 0; step < 80; step++ {
 			same(t, k, m, step)
+			entry := d.below(set.Workers)
 			if d.below(4) == 0 {
-				ticks(t, k, m.tick()...)
-				continue
+				entry = -1
 			}
-			w := d.below(set.Workers)
-			want := m.pick(w)
-			if got, err := k.Pick(w); err != api.OK || got != want {
-				t.Fatalf("P7, P12: %+v: step %d: Pick(%d) = %+v, %d, want %+v", set, step, w, got, err, want)
+			line := api.Line{Pick: idle}
+			if entry == -1 {
+				line.Misses = m.tick()
+				ticks(t, k, line.Misses...)
+			} else {
+				line.Pick = m.pick(entry)
+				codes[line.Pick.Code]++
+				answers(t, k, entry, line.Pick.Thread, line.Pick.At, line.Pick.Code)
 			}
-			codes[want.Code]++
+			line.Now, line.Running = m.now, append([]int{}, m.running...)
+			script = append(script, entry)
+			want = append(want, line)
 		}
 		misses(t, k, m.misses...)
+		tells(t, set, script, want...)
+		if t.Failed() {
+			t.Fatalf("P4 to P16: round %d: %+v", round, set)
+		}
 	}
-	for i := api.Done; i < api.Full; i++ {
-		if codes[i] < 500 {
-			t.Errorf("the code %d came %d times", i, codes[i])
+	for code, came := range codes {
+		if came < 200 {
+			t.Errorf("the code %d came %d times", code, came)
 		}
 	}
 }

@@ -30,10 +30,8 @@ func (k *Kernel) lock(t int, m int, ticks int) api.Code {
 		return api.Done
 	case k.leadsTo(owner, t):
 		return api.Cycle
-	case ticks == 0:
-		return api.TimedOut
 	}
-	return k.beginWait(t, api.ForMutex, m, ticks)
+	return k.waitFor(t, api.ForMutex, m, ticks)
 }
 
 // tooHigh asks for the Base alone: a level that is lent bars no thread.

@@ -10,14 +10,13 @@ import (
 
 // roomySet: a set whose lists all have spare room, and the whole of these lists.
 func roomySet() (api.Set, func() string) {
-	codes := make(code, 8)
-	codes[0], codes[1], codes[2], codes[3] = lock(0, 2), yield, prio(1, 7), sleep(2)
-	for i := 4; i < 8; i++ {
-		codes[i] = api.Instr{Op: 77, A: 77, B: 77}
+	codes := code{lock(0, 2), yield, send(0, 4), prio(1, 7), up(0), sleep(2), down(0, 1), recv(0, 2), send(0, 5)}
+	for i := 0; i < 4; i++ {
+		codes = append(codes, api.Instr{Op: 77, A: 77, B: 77})
 	}
 	threads := make([]api.Thread, 4)
-	threads[0] = api.Thread{Base: 5, Period: 4, Deadline: 1, Code: codes[:4]}
-	threads[1] = api.Thread{Base: 5, Offset: 1, Period: 3, Deadline: 3, Code: codes[:2]}
+	threads[0] = api.Thread{Base: 5, Period: 4, Deadline: 1, Code: codes[:9]}
+	threads[1] = api.Thread{Base: 5, Offset: 1, Period: 3, Deadline: 3, Code: codes[:3]}
 	threads[2] = api.Thread{Base: 88}
 	mutexes := []api.Mutex{{Kind: api.Ceiling, Top: 6}, {Kind: 55}}
 	sems := []api.Sem{{First: 1, Most: 2}, {First: 66}}
@@ -85,10 +84,7 @@ func TestAnswersAreFresh(t *testing.T) {
 	first := k.Running()
 	second := k.Running()
 	for _, list := range [][]int{first, second} {
-		whole := list[:cap(list)]
-		for i := range whole {
-			whole[i] = 1000 + i
-		}
+		spoilNumbers(list)
 		runs(t, k, 0, 1, -1)
 	}
 	second[0] = 5
@@ -97,6 +93,14 @@ func TestAnswersAreFresh(t *testing.T) {
 	}
 	picks(t, k, 0, 0, 0)
 	runs(t, k, -1, 1, -1)
+}
+
+// spoilNumbers writes over a list of numbers and its spare room.
+func spoilNumbers(list []int) {
+	whole := list[:cap(list)]
+	for i := range whole {
+		whole[i] = 1000 + i
+	}
 }
 
 // spoil writes over a list of misses and its spare room.
@@ -143,7 +147,9 @@ func TestLookingChangesNothing(t *testing.T) {
 			looked.Now()
 			looked.Misses()
 			looked.Owner(n)
-			looked.Waiting(api.ForMutex, n)
+			for what := api.ForMutex; what <= api.ForQueue; what++ {
+				looked.Waiting(what, n)
+			}
 			looked.Count(n)
 			looked.Messages(n)
 		}

@@ -30,7 +30,6 @@ func (k *Kernel) nextInstr(t int) api.Instr {
 }
 
 // do lets thread t do an instruction behind which it goes on at the next place.
-// Operations that are not told here do nothing yet.
 func (k *Kernel) do(t int, instr api.Instr) api.Code {
 	switch instr.Op {
 	case api.OpYield:
@@ -43,6 +42,14 @@ func (k *Kernel) do(t int, instr api.Instr) api.Code {
 		return k.lock(t, instr.A, instr.B)
 	case api.OpUnlock:
 		return k.unlock(t, instr.A)
+	case api.OpDown:
+		return k.down(t, instr.A, instr.B)
+	case api.OpUp:
+		return k.up(instr.A)
+	case api.OpSend:
+		return k.send(instr.A, instr.B)
+	case api.OpRecv:
+		return k.receive(t, instr.A, instr.B)
 	}
 	return api.Done
 }

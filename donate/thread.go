@@ -11,6 +11,7 @@ type thread struct {
 	deadline int
 	at       int
 	last     api.Code
+	got      int
 	released int
 	ended    int
 	wait     wait
@@ -62,6 +63,7 @@ func (k *Kernel) view(t int) api.View {
 		Level:    level,
 		At:       seen.at,
 		Last:     seen.last,
+		Got:      seen.got,
 		Released: seen.released,
 		Ended:    seen.ended,
 		For:      seen.wait.what,

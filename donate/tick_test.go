@@ -111,6 +111,51 @@ func TestWakeInOrder(t *testing.T) {
 	runs(t, k, 2, 3, 0, 1)
 }
 
+// P10: of the waits that end at one tick only a sleep ends with Done; they end in
+// the order in which they began, whatever was waited for. A wait without end
+// goes on.
+func TestEveryWaitEnds(t *testing.T) {
+	set := roomFor(1, roomFor(1, counting(0, 1, counting(0, 1, inherit(1, workers(7,
+		api.Thread{Base: 9, Code: code{lock(0, -1), work}},
+		api.Thread{Base: 4, Code: code{lock(0, 2)}},
+		api.Thread{Base: 4, Code: code{down(1, 2)}},
+		api.Thread{Base: 4, Code: code{recv(1, 2)}},
+		api.Thread{Base: 4, Code: code{sleep(2)}},
+		api.Thread{Base: 4, Code: code{down(0, -1)}},
+		api.Thread{Base: 4, Code: code{recv(0, -1)}},
+	))))))
+	set.Start = 40
+	k := begin(t, set)
+	picks(t, k, 0, 0, 0)
+	for _, thread := range []int{3, 5, 1, 6, 4, 2} {
+		rests(t, k, thread, thread, 0)
+	}
+	ticks(t, k)
+	for thread, wait := range []api.View{
+		{For: api.ForMutex, Until: 42},
+		{For: api.ForSem, Of: 1, Until: 42},
+		{For: api.ForQueue, Of: 1, Until: 42},
+		{For: api.ForTime, Until: 42},
+		{For: api.ForSem, Until: -1},
+		{For: api.ForQueue, Until: -1},
+	} {
+		wait.State, wait.Base, wait.Level, wait.At, wait.Last, wait.Released = api.Blocked, 4, 4, 1, api.Waits, 1
+		looks(t, k, thread+1, wait)
+	}
+	ticks(t, k)
+	runs(t, k, 0, 3, 1, 4, 2, -1, -1)
+	for thread, last := range []api.Code{api.Done, api.TimedOut, api.TimedOut, api.TimedOut, api.Done} {
+		if view, _ := k.Look(thread); view.Last != last || view.For != 0 || view.Of != 0 || view.Until != 0 {
+			t.Errorf("P10: Look(%d) = %+v, want Last %d", thread, view, last)
+		}
+	}
+	for thread := 5; thread < 7; thread++ {
+		if view, _ := k.Look(thread); view.State != api.Blocked || view.Last != api.Waits {
+			t.Errorf("P10: Look(%d) = %+v, want Blocked", thread, view)
+		}
+	}
+}
+
 // P10: nor do they end by level: thread 0 began first, and has the lesser
 // ticket, as is seen when thread 1 comes down to its level.
 func TestWakeNotByLevel(t *testing.T) {

@@ -17,6 +17,14 @@ func (k *Kernel) waits(t int) bool {
 	return k.threads[t].wait.what != api.ForNothing
 }
 
+// waitFor makes thread t wait for a thing, if it may wait at all.
+func (k *Kernel) waitFor(t int, what int, of int, ticks int) api.Code {
+	if ticks == 0 {
+		return api.TimedOut
+	}
+	return k.beginWait(t, what, of, ticks)
+}
+
 // beginWait makes thread t wait for a number of ticks, or endless.
 func (k *Kernel) beginWait(t int, what int, of int, ticks int) api.Code {
 	until := endless
@@ -34,9 +42,9 @@ func (k *Kernel) howMany(what int) int {
 	case api.ForMutex:
 		return len(k.mutexes)
 	case api.ForSem:
-		return k.sems
+		return len(k.sems)
 	case api.ForQueue:
-		return k.queues
+		return len(k.queues)
 	}
 	return 0
 }
@@ -69,17 +77,6 @@ func (k *Kernel) endWait(t int, code api.Code) {
 	k.threads[t].wait = wait{}
 	k.threads[t].last = code
 	k.drawTicket(t)
-}
-
-// without copies a list but for an entry.
-func without(list []int, entry int) []int {
-	var rest []int
-	for _, found := range list {
-		if found != entry {
-			rest = append(rest, found)
-		}
-	}
-	return rest
 }
 
 // endDueWaits ends the waits whose time is now, in the order in which they

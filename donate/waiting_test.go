@@ -124,10 +124,7 @@ func TestWaitingIsFresh(t *testing.T) {
 	first, _ := k.Waiting(api.ForMutex, 0)
 	second, _ := k.Waiting(api.ForMutex, 0)
 	for _, list := range [][]int{first, second} {
-		whole := list[:cap(list)]
-		for i := range whole {
-			whole[i] = 1000 + i
-		}
+		spoilNumbers(list)
 		lines(t, k, 0, 1, 2, 3)
 	}
 	second[0] = 5

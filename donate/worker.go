@@ -11,16 +11,6 @@ func freeWorkers(n int) []int {
 	return workers
 }
 
-// placeOf tells the first place of an entry in a list, or none.
-func placeOf(list []int, entry int) int {
-	for i, found := range list {
-		if found == entry {
-			return i
-		}
-	}
-	return none
-}
-
 // giveOutWorkers sees to it that the awake threads that go ahead run (P5), and
 // that those that go on running stay where they are (P6).
 func (k *Kernel) giveOutWorkers() {
